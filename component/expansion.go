@@ -5,6 +5,7 @@ import (
 	"strings"
 
 	"widgetry/api"
+	"widgetry/copies"
 	"widgetry/expr"
 )
 
@@ -58,7 +59,7 @@ func (x *expansion) begin(c api.Component, path string, args []api.Value, depth 
 	if at, ok := x.positions[path]; ok && x.former[at].Name == c.Name {
 		i.known = true
 		i.before = x.former[at].Seen
-		i.Values = copyValues(x.former[at].Values)
+		i.Values = copies.Values(x.former[at].Values)
 	} else if e := i.initialize(); e != api.OK {
 		return nil, e
 	}

@@ -4,6 +4,7 @@ import (
 	"slices"
 
 	"widgetry/api"
+	"widgetry/copies"
 )
 
 // isValid reports whether r can be a running program of p.
@@ -43,9 +44,9 @@ func positions(r api.Running) map[string]int {
 func copyRunning(r api.Running) api.Running {
 	copied := api.Running{Instances: slices.Clone(r.Instances)}
 	for i, x := range copied.Instances {
-		x.Args, x.Values, x.Seen = copyValues(x.Args), copyValues(x.Values), slices.Clone(x.Seen)
+		x.Args, x.Values, x.Seen = copies.Values(x.Args), copies.Values(x.Values), slices.Clone(x.Seen)
 		for j, l := range x.Seen {
-			x.Seen[j] = copyValues(l)
+			x.Seen[j] = copies.Values(l)
 		}
 		copied.Instances[i] = x
 	}
