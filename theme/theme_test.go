@@ -246,11 +246,7 @@ func TestReadableNoColor(t *testing.T) {
 func TestReadables(t *testing.T) {
 	l := samples(t)
 	for _, least := range []int{0, 101, 300, 449, 450, 458, 459, 700} {
-		for i, color := range l {
-			// Every other color, and all backgrounds: the test is to be quick.
-			if i%2 == 1 {
-				continue
-			}
+		for _, color := range l {
 			for y, background := range l {
 				got := Readable(color, background, least)
 				want := 0xFFFFFF
