@@ -1,4 +1,4 @@
-// Package copies copies parts of views, so that a result shares no memory with an argument.
+// Package copies copies parts of views and layouts, so that a result shares no memory with an argument.
 package copies
 
 import (
@@ -46,6 +46,25 @@ func Actions(l []api.Action) []api.Action {
 func Node(n api.Node) api.Node {
 	n.Attrs, n.Actions, n.Kids = Attrs(n.Attrs), Actions(n.Actions), slices.Clone(n.Kids)
 	return n
+}
+
+// Tree returns a copy of t.
+func Tree(t api.Tree) api.Tree {
+	t.Nodes = slices.Clone(t.Nodes)
+	for i, n := range t.Nodes {
+		t.Nodes[i] = Node(n)
+	}
+	return t
+}
+
+// Fonts returns a copy of l.
+func Fonts(l []api.Font) []api.Font {
+	copied := slices.Clone(l)
+	for i, f := range copied {
+		f.Advances, f.Kerns, f.Ligatures = slices.Clone(f.Advances), slices.Clone(f.Kerns), slices.Clone(f.Ligatures)
+		copied[i] = f
+	}
+	return copied
 }
 
 // View returns a copy of a valid view.

@@ -77,9 +77,14 @@ func TestCopies(t *testing.T) {
 	testCopy(t, attrs, Attrs(attrs))
 	testCopy(t, actions, Actions(actions))
 	testCopy(t, node, Node(node))
+	tree := api.Tree{Root: 9, Next: -1, Nodes: []api.Node{node, node, {}}}
+	font := api.Font{Units: 16, Ascent: 1, Descent: 2, Gap: 3, Default: 4, Advances: []api.Advance{{From: 1, To: 2, Width: 3}}, Kerns: []api.Kern{{A: 1, B: 2, D: 3}}, Ligatures: []api.Ligature{{A: 1, B: 2, Glyph: 3, Width: 4}}}
+	fonts := []api.Font{font, font, {}}
+	testCopy(t, tree, Tree(tree))
+	testCopy(t, fonts, Fonts(fonts))
 	testCopy(t, view, View(view))
 	testCopy(t, view, View(View(view)))
-	if len(Values(nil))+len(Attrs(nil))+len(Actions(nil)) > 0 {
+	if len(Values(nil))+len(Attrs(nil))+len(Actions(nil))+len(Fonts(nil))+len(Tree(api.Tree{}).Nodes) > 0 {
 		t.Error("R2: the copy of nothing has elements")
 	}
 }

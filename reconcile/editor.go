@@ -120,8 +120,5 @@ func (x *editor) result() (api.Tree, api.Errno) {
 	if e := view.Check(t); e != api.OK {
 		return api.Tree{}, e
 	}
-	for i, n := range t.Nodes {
-		t.Nodes[i] = copies.Node(n)
-	}
-	return t, api.OK
+	return copies.Tree(t), api.OK
 }
